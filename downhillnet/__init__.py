@@ -1,0 +1,1 @@
+"""Packets passed downhill through a net that nobody knows."""
