@@ -8,9 +8,16 @@ import unittest
 from downhillnet.books import (
     Book, book_text, is_lot, link_number, links_in, links_out, puts_of, rooms_of, station_number,
 )
-from downhillnet.errors import BadBook, BadLot, BadStations, BadTicks, NoLink, NoStation
+from downhillnet.bounds import heap_bound, lot_bound
+from downhillnet.errors import BadBook, BadLot, BadStations, BadTicks, NoFlow, NoLink, NoStation
+from downhillnet.flows import (
+    excess, greatest_worst, has_flow, is_cut, is_flow, judged, least_worst, shares, shows_judged, shows_shares, spare,
+    spare_of, worst_excess,
+)
+from downhillnet.runs import Run, heaps_of, most_in, passes_of, played, run_from
 from downhillnet.values import is_between, is_integer, is_name, number_of
 from downhillnet.weather import calm, finished, first_bad, is_tick, may_come, rough, windows_in, windows_many
+from downhillnet.worst import shows_worst_weather, standings_many, worst_lot, worst_weather
 from tests.tools import TEXT, Case, any_values, nested
 
 PARAMETERS = {
@@ -35,7 +42,44 @@ PARAMETERS = {
         "finished": ["book", "ticks"],
         "windows_many": ["book"],
     },
+    "runs": {
+        "Run": ["book"],
+        "run_from": ["book", "heaps"],
+        "played": ["book", "ticks"],
+        "heaps_of": ["book", "ticks"],
+        "passes_of": ["book", "ticks"],
+        "most_in": ["book", "ticks", "names"],
+    },
+    "flows": {
+        "excess": ["book", "names"],
+        "is_flow": ["book", "value"],
+        "is_cut": ["book", "value"],
+        "judged": ["book"],
+        "shows_judged": ["book", "value"],
+        "has_flow": ["book"],
+        "worst_excess": ["book"],
+        "least_worst": ["book"],
+        "greatest_worst": ["book"],
+        "spare": ["book", "name"],
+        "spare_of": ["book", "names"],
+        "shares": ["book", "names"],
+        "shows_shares": ["book", "names", "value"],
+    },
+    "bounds": {
+        "lot_bound": ["book", "many"],
+        "heap_bound": ["book"],
+    },
+    "worst": {
+        "standings_many": ["book", "most"],
+        "worst_lot": ["book", "names", "most"],
+        "worst_weather": ["book", "names", "most"],
+        "shows_worst_weather": ["book", "names", "most", "value"],
+    },
 }
+METHODS = {
+    "runs": {"Run": {"go_on": ["self", "tick"], "copy": ["self"]}},
+}
+SHORT = "net 2 0 0\ngoal g\nstation a 0 1\nlink a g 1 1"
 TICKS = (((1, 0), (0, 1), (0, 1, 0)), ((0, 0), (1,), (0, 0, 0)))
 
 
@@ -55,6 +99,14 @@ class Interface(Case):
                     made = getattr(importlib.import_module("downhillnet." + file), name)
                     self.assertEqual((made.__module__, made.__name__), ("downhillnet." + file, name))
 
+    def test_methods_are_defined_in_the_class_with_the_parameters_of_the_document(self):
+        for file, classes in METHODS.items():
+            for name, told in classes.items():
+                made = vars(getattr(importlib.import_module("downhillnet." + file), name))
+                for method, parameters in told.items():
+                    with self.subTest(file=file, name=name, method=method):
+                        self.assertEqual(list(inspect.signature(made[method]).parameters), parameters)
+
     def test_methods_of_a_book_are_defined_in_its_class(self):
         self.assertLessEqual({"__init__", "__eq__", "__len__"}, set(vars(Book)))
 
@@ -71,6 +123,32 @@ class Interface(Case):
         self.same([calm(book=book), rough(book=book)], [calm(book), rough(book)])
         self.same(windows_many(book=book), windows_many(book))
 
+    def test_arguments_by_name_of_runs(self):
+        book = Book(TEXT)
+        run, other = Run(book=book), run_from(book=book, heaps=(3, 1))
+        self.same([run.go_on(tick=TICKS[0]), other.go_on(tick=TICKS[1])], [(1, 0, 0), (0, 1, 0)])
+        self.same(run.copy().heaps, run.heaps)
+        self.same([played(book=book, ticks=TICKS), heaps_of(book=book, ticks=TICKS)],
+                  [((0, 0), 1), ((0, 0), (0, 1), (0, 0))])
+        self.same(passes_of(book=book, ticks=TICKS), ((1, 0, 0), (0, 1, 0)))
+        self.same(most_in(book=book, ticks=TICKS, names=("b",)), 1)
+
+    def test_arguments_by_name_of_flows(self):
+        book, lot = Book(TEXT), ("a", "b")
+        self.same([excess(book=book, names=lot), is_flow(book=book, value=(3, 3, 0))], [0, True])
+        self.same([is_cut(book=book, value=lot), judged(book=book)], [False, ("flow", (3, 3, 0))])
+        self.same([shows_judged(book=book, value=("flow", (3, 3, 0))), has_flow(book=book)], [True, True])
+        self.same([worst_excess(book=book), least_worst(book=book), greatest_worst(book=book)], [0, lot, lot])
+        self.same([spare(book=book, name="a"), spare_of(book=book, names=lot)], [0, 0])
+        self.same([shares(book=book, names=lot), shows_shares(book=book, names=lot, value=(0, 0))], [(0, 0), True])
+
+    def test_arguments_by_name_of_bounds_and_of_what_is_worst(self):
+        book = Book(SHORT)
+        self.same([lot_bound(book=book, many=1), heap_bound(book=book)], [8, 8])
+        self.same([standings_many(book=book, most=9), worst_lot(book=book, names=("a",), most=9)], [9, 2])
+        ticks = worst_weather(book=book, names=("a",), most=9)
+        self.same(shows_worst_weather(book=book, names=("a",), most=9, value=ticks), True)
+
 
 class Equal(Case):
 
@@ -79,13 +157,34 @@ class Equal(Case):
         told = [calm(book), rough(book), windows_many(book), may_come(book, TICKS), finished(book, TICKS)]
         for lot in names:
             told += [links_out(book, lot), links_in(book, lot), rooms_of(book, lot), puts_of(book, lot)]
-        return told
+        told += [played(book, TICKS), heaps_of(book, TICKS), passes_of(book, TICKS), most_in(book, TICKS, ("b",))]
+        told += [judged(book), has_flow(book), worst_excess(book), least_worst(book), greatest_worst(book)]
+        for lot in names[:2]:
+            told += [excess(book, lot), is_cut(book, lot), spare(book, "a"), spare_of(book, lot), shares(book, lot)]
+        return [*told, lot_bound(book, 2), heap_bound(book)]
+
+    def calls_of_worst(self, book):
+        names = ("a",)
+        return [standings_many(book, 99), worst_lot(book, names, 99), worst_weather(book, names, 99)]
 
     def test_equal_calls_return_equal_results(self):
         book = Book(TEXT)
         first = self.calls(book)
         self.same(self.calls(book), first)
         self.same(self.calls(Book(TEXT)), first)
+        book = Book(SHORT)
+        first = self.calls_of_worst(book)
+        self.same(self.calls_of_worst(book), first)
+        self.same(self.calls_of_worst(Book(SHORT)), first)
+
+    def test_equal_calls_with_cuts(self):
+        book = Book(TEXT.replace("station a 2 3", "station a 2 9"))
+        values = []
+        for one in (book, book, Book(book.text)):
+            with self.assertRaises(NoFlow) as caught:
+                shares(one, ("a",))
+            values.append((judged(one), caught.exception.value))
+        self.same(values, [values[0]] * 3)
 
     def test_a_book_stays_as_it_is(self):
         book = Book(TEXT)
@@ -94,17 +193,29 @@ class Equal(Case):
         for call in (links_out, station_number, first_bad, finished):
             with self.assertRaises((BadLot, NoStation, BadTicks)):
                 call(book, ["x"])
+        for call in (run_from, played, excess, spare, shares, lot_bound, standings_many):
+            with self.assertRaises(ValueError):
+                call(book, ["x"])
+        run = Run(book)
+        run.go_on(TICKS[0])
+        self.calls_of_worst(Book(SHORT))
         self.same(vars(book), ahead)
 
     def test_arguments_are_not_changed(self):
         book = Book(TEXT)
         for value in ([["a", 2, 3]], ({"a": [1]},), ([1], [2], [3]), (([0], [1], [2]),), nested(60)):
             ahead = copy.deepcopy(value)
-            for call in (station_number, is_lot, links_out, is_tick, first_bad, may_come, finished):
+            for call in (
+                station_number, is_lot, links_out, is_tick, first_bad, may_come, finished, run_from, Run(book).go_on,
+                played, heaps_of, passes_of, excess, is_flow, is_cut, shows_judged, spare, spare_of, shares, lot_bound,
+                standings_many,
+            ):
                 try:
-                    call(book, value)
+                    call(book, value) if call.__name__ != "go_on" else call(value)
                 except ValueError:
                     pass
+            self.same([shows_shares(book, ("a",), value), shows_worst_weather(Book(SHORT), ("a",), 9, value)],
+                      [False, False])
             for place in range(6):
                 parts = [4, 0, 1, "home", book.stations, book.links]
                 parts[place] = value
