@@ -5,7 +5,7 @@ from downhillnet.errors import BadHeaps, BadNames, BadTick, BadTicks
 from downhillnet.values import is_row
 from downhillnet.weather import MOST_TICKS, is_tick
 
-MOST_AT_FIRST = 10 ** 9
+MOST_IN_HEAP = 10 ** 9
 
 
 class Run:
@@ -50,7 +50,7 @@ class Run:
 
 def run_from(book, heaps):
     """A run that begins with these heaps."""
-    if not is_row(heaps, len(book), 0, MOST_AT_FIRST):
+    if not is_row(heaps, len(book), 0, MOST_IN_HEAP):
         raise BadHeaps(heaps)
     run = Run(book)
     run.heaps = heaps
