@@ -17,8 +17,8 @@ class Search:
     window there have been, counts for each station how many packets were put in there in these, and at how many of
     these each link from it was open.
 
-    An act is what is done at a tick to one station: how many packets are put in, and a choice (age, passing) for
-    each link from it. So the links of one station are chosen without regard to those of the others.
+    An act is what comes to one station at a tick: how many packets are put in, and for each link from it an age, or
+    None if the link is shut. So what comes to one station is chosen without regard to the others.
     """
 
     def __init__(self, book):
@@ -27,11 +27,11 @@ class Search:
         self.links_from = [
             [number for number, pair in enumerate(self.ends) if pair[0] == station] for station in range(len(book))
         ]
-        self.no_counts = tuple([(0, (0,) * len(links)) for links in self.links_from])
 
     def first(self):
         """The standing ahead of tick 0."""
-        return past_of(self.book, (0,) * len(self.book)), 0, self.no_counts
+        counts = [(0, (0,) * len(links)) for links in self.links_from]
+        return past_of(self.book, (0,) * len(self.book)), 0, tuple(counts)
 
     def behind(self, standing):
         """The standings that can come next, and for each one the acts of all stations that lead to it."""
@@ -51,64 +51,74 @@ class Search:
         """The acts of a station, by what comes of them; only one of those of which the same comes."""
         past, number, counts = standing
         put_in, opens = counts[station]
-        links = self.links_from[station]
-        still = self.book.window - number - 1
-        may_shut = [many + still >= self.book.links[link][3] for link, many in zip(links, opens)]
-        limits = [[limit_of(self.book, self.ends[link], heaps) for heaps in past] for link in links]
+        last = number + 1 == self.book.window
+        plans = [self.plan(standing, link, times) for link, times in zip(self.links_from[station], opens)]
         acts = {}
         for put in range(self.book.stations[station][2] - put_in + 1):
             has = past[0][station] + put
-            rows = [()]
-            for shut, limit in zip(may_shut, limits):
-                choices = choices_of(shut, limit, has)
-                rows = [(*row, choice) for row in rows for choice in choices]
-            for row in rows:
-                # Behind the last tick of a window it is of no account what was counted in it.
-                count = counted(counts[station], put, row) if still > 0 else self.no_counts[station]
-                acts[(self.heaps_of(station, has, row), count)] = (put, row)
+            rows = {(tuple([has if at == station else 0 for at in range(len(self.book))]), ()): ()}
+            for plan in plans:
+                rows = self.further(rows, plan[0], choices_of(plan, has))
+            for (heaps, times), ages in rows.items():
+                acts[(heaps, (0 if last else put_in + put, times))] = (put, ages)
         return acts
 
-    def heaps_of(self, station, has, row):
-        """What lies in the stations behind the tick of what one station has, by a row of choices for its links."""
-        heaps = [0] * len(self.book)
-        heaps[station] = has
-        for link, (_, passing) in zip(self.links_from[station], row):
-            if passing:
-                many = min(self.book.links[link][2], heaps[station])
-                heaps[station] -= many
-                whither = self.ends[link][1]
-                if whither is not None:
-                    heaps[whither] += many
-        return tuple(heaps)
+    def plan(self, standing, link, times):
+        """What a link can do that was open so many times in its window: a tuple (link, shut, opened, limits).
+
+        Shut and opened tell how often it was open behind the tick, if it is shut, None if it may not be, or open; the
+        limits by age what its station can have at most without passing.
+        """
+        past, number, _ = standing
+        limits = [limit_of(self.book, self.ends[link], heaps) for heaps in past]
+        still = self.book.window - number - 1
+        may_shut = times + still >= self.book.links[link][3]
+        # Behind the last tick of a window it is of no account what was counted in it.
+        shut, opened = (times, times + 1) if still > 0 else (0, 0)
+        return link, (shut if may_shut else None), opened, limits
+
+    def further(self, rows, link, choices):
+        """The rows of ages with that of one link more, by the heaps and the counts that come of them."""
+        longer = {}
+        for (heaps, counts), ages in rows.items():
+            for age, passing, times in choices:
+                lies = self.let_pass(heaps, link) if passing else heaps
+                longer[(lies, (*counts, times))] = (*ages, age)
+        return longer
+
+    def let_pass(self, heaps, link):
+        """The heaps, when a link has passed what it can."""
+        whence, whither = self.ends[link]
+        lies = list(heaps)
+        many = min(self.book.links[link][2], lies[whence])
+        lies[whence] -= many
+        if whither is not None:
+            lies[whither] += many
+        return tuple(lies)
 
     def tick_of(self, acts):
         """The tick at which these acts are done, one for each station."""
         ages = {}
         for links, (_, row) in zip(self.links_from, acts):
-            for link, (age, _) in zip(links, row):
+            for link, age in zip(links, row):
                 if age is not None:
                     ages[link] = age
         puts = tuple([put for put, _ in acts])
         return puts, tuple(sorted(ages)), tuple([ages.get(link, 0) for link in range(len(self.ends))])
 
 
-def choices_of(shut, limits, has):
-    """The choices of a link from a station that has so many packets: shut, if it may be, and each answer to hear.
+def choices_of(plan, has):
+    """The choices of a link whose station has so many packets: tuples of its age, whether it passes, and its count.
 
-    The limits tell by age how many the station can have without passing.
+    It can be shut, if it may be; or it hears, at one age or another, what lets it pass, or what does not.
     """
-    choices = [(None, False)] if shut else []
+    _, shut, opened, limits = plan
+    choices = [] if shut is None else [(None, False, shut)]
     if has > min(limits):
-        choices.append((limits.index(min(limits)), True))
+        choices.append((limits.index(min(limits)), True, opened))
     if has <= max(limits):
-        choices.append((limits.index(max(limits)), False))
+        choices.append((limits.index(max(limits)), False, opened))
     return choices
-
-
-def counted(count, put, row):
-    """The count of a station behind an act that does not end a window."""
-    opens = tuple([many + (0 if age is None else 1) for many, (age, _) in zip(count[1], row)])
-    return count[0] + put, opens
 
 
 def many_at_first(book):
