@@ -149,6 +149,11 @@ def book_text(window, margin, late, goal, stations, links):
     return "\n".join(lines)
 
 
+def changed(book, stations, links):
+    """The book with these stations and these links, and else as before."""
+    return Book(book_text(book.window, book.margin, book.late, book.goal, stations, links))
+
+
 def station_number(book, name):
     """The number of the station with this name."""
     for number, station in enumerate(book.stations):

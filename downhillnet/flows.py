@@ -44,16 +44,16 @@ class Web:
             layer = later
         return depths
 
-    def lead(self, source, sink):
+    def carry(self, source, sink):
         """Lead as much more as can be led from the source to the sink; how much that is."""
         total = 0
         depths = self.depths(source)
         while depths[sink] is not None:
-            total += self.lead_down(source, sink, depths)
+            total += self.carry_down(source, sink, depths)
             depths = self.depths(source)
         return total
 
-    def lead_down(self, source, sink, depths):
+    def carry_down(self, source, sink, depths):
         """Lead what can be led over arcs that lead one deeper each; how much that is."""
         total = 0
         untried = [list(arcs) for arcs in self.arcs]
@@ -96,18 +96,23 @@ def all_puts(book):
 
 
 def filled(book, puts):
-    """The web of a book with these puts, as much as can be being led in it, and how much that is.
+    """The web of a book with these puts, as much as can be being led in it, and how much that is."""
+    return filled_by(book, carriages_of(book), puts)
+
+
+def filled_by(book, carriages, puts):
+    """The web of a book with these carriages and puts, as much as can be being led in it, and how much that is.
 
     Its nodes are the stations, then the goal, then the source; the link k has the arc 2 * k.
     """
     goal = len(book)
     source = goal + 1
     web = Web(goal + 2)
-    for (whence, whither), carriage in zip(ends_of(book), carriages_of(book)):
+    for (whence, whither), carriage in zip(ends_of(book), carriages):
         web.lay(whence, goal if whither is None else whither, carriage)
     for number, put in enumerate(puts):
         web.lay(source, number, put)
-    return web, web.lead(source, goal)
+    return web, web.carry(source, goal)
 
 
 def without_limit(book):
@@ -231,7 +236,7 @@ def shares(book, names):
     goal = len(book)
     # What is led already stays led, as to its source: so a flow for all puts is still there behind this.
     arcs = [web.lay(goal + 1, station_number(book, name), without_limit(book)) for name in names]
-    web.lead(goal + 1, goal)
+    web.carry(goal + 1, goal)
     return tuple([web.led(arc) for arc in arcs])
 
 

@@ -78,12 +78,17 @@ def step(book, ends, past, tick):
     A past tells the heaps by age: first those at the beginning of the tick that comes next.
     """
     passes = passes_at(book, ends, past, tick)
-    heaps = [heap + put for heap, put in zip(past[0], tick[0])]
+    return (heaps_behind(ends, past[0], tick[0], passes), *past[:book.late]), passes
+
+
+def heaps_behind(ends, heaps, puts, passes):
+    """The heaps behind a tick at which so much is put in at each station, and so much passes each link."""
+    lies = [heap + put for heap, put in zip(heaps, puts)]
     for (whence, whither), many in zip(ends, passes):
-        heaps[whence] -= many
+        lies[whence] -= many
         if whither is not None:
-            heaps[whither] += many
-    return (tuple(heaps), *past[:book.late]), passes
+            lies[whither] += many
+    return tuple(lies)
 
 
 def passes_at(book, ends, past, tick):

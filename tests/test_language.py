@@ -122,10 +122,22 @@ def wrong_names(tree):
             yield "L17", node.lineno
 
 
-def wrong_nodes(tree):
-    """What breaks L4, L6, L7, L20, L24, L25 and L27."""
+def methods_of(tree):
+    """The names of all methods of the classes of a file."""
+    made = [node for node in ast.walk(tree) if isinstance(node, ast.ClassDef)]
+    return {node.name for part in made for node in part.body if isinstance(node, ast.FunctionDef)}
+
+
+def attributes_of(tree):
+    """The names of all attributes that a file assigns."""
+    return {
+        node.attr for node in ast.walk(tree) if isinstance(node, ast.Attribute) and isinstance(node.ctx, ast.Store)
+    }
+
+
+def wrong_nodes(tree, own):
+    """What breaks L4, L6, L7, L20, L24, L25 and L27; own are the names of all methods of the package."""
     documents = list(docstrings_of(tree))
-    own = {node.name for node in ast.walk(tree) if isinstance(node, ast.FunctionDef)}
     for node in ast.walk(tree):
         line = getattr(node, "lineno", 1)
         if isinstance(node, ast.stmt) and not isinstance(node, (*STATEMENTS, ast.ImportFrom, ast.ClassDef)):
@@ -157,10 +169,10 @@ def wrong_nodes(tree):
                 yield "L25", line
 
 
-def wrong_in(text):
+def wrong_in(text, own=()):
     """All places of a file that break a rule: pairs of rules and lines."""
     tree = ast.parse(text)
-    return [*wrong_text(text), *wrong_top(tree), *wrong_names(tree), *wrong_nodes(tree)]
+    return [*wrong_text(text), *wrong_top(tree), *wrong_names(tree), *wrong_nodes(tree, {*own, *methods_of(tree)})]
 
 
 class Language(unittest.TestCase):
@@ -174,10 +186,33 @@ class Language(unittest.TestCase):
         for name in names:
             self.assertRegex(name, r"\A([a-z][a-z0-9_]*|__init__|__main__)\.py\Z")
 
+    def trees(self):
+        return [ast.parse(path.read_text(encoding="utf-8")) for path in self.files()]
+
     def test_each_file_keeps_the_rules(self):
+        own = set().union(*[methods_of(tree) for tree in self.trees()])
         for path in self.files():
             with self.subTest(path.name):
-                self.assertEqual(wrong_in(path.read_text(encoding="utf-8")), [])
+                self.assertEqual(wrong_in(path.read_text(encoding="utf-8"), own), [])
+
+    def test_no_name_is_a_method_and_an_attribute(self):
+        own = set().union(*[methods_of(tree) for tree in self.trees()])
+        attributes = set().union(*[attributes_of(tree) for tree in self.trees()])
+        self.assertEqual(own & attributes, set())
+        # L26: what values of Python's own have as a method is no attribute.
+        self.assertEqual(attributes & (METHODS - set("count index find join lower upper split strip copy add".split())), set())
+
+    def test_what_is_called_by_name_takes_what_it_is_passed(self):
+        made = {}
+        for tree in self.trees():
+            for node in tree.body:
+                if isinstance(node, ast.FunctionDef):
+                    self.assertNotIn(node.name, made)
+                    made[node.name] = len(node.args.args)
+        for tree in self.trees():
+            for node in ast.walk(tree):
+                if isinstance(node, ast.Call) and isinstance(node.func, ast.Name) and node.func.id in made:
+                    self.assertEqual(len(node.args) + len(node.keywords), made[node.func.id], ast.unparse(node))
 
     def test_each_import_names_what_stands_in_that_file(self):
         ahead = {}
